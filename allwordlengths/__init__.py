@@ -1,0 +1,1 @@
+"""Allwordlengths: programs on words of bits, for every length at once."""
