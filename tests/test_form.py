@@ -19,6 +19,27 @@ BUILTINS = """len range enumerate zip min max sum abs sorted reversed int str bo
 isinstance ord repr any all divmod pow iter next map ValueError TypeError KeyError IndexError
 NotImplemented property staticmethod classmethod super object""".split()
 
+METHODS = """append clear copy count endswith extend find get index insert isalnum isalpha isdigit islower isspace
+isupper items join keys ljust lower lstrip partition pop remove replace reverse rfind rjust rpartition rsplit rstrip
+setdefault split splitlines startswith strip update upper values zfill bit_length add discard""".split()
+
+# What the document's interface lists for the modules that are there so far, with the methods of their classes.
+INTERFACE = {
+    "steps": {"Step": "done", "roll_step": "", "near_step": "", "sum_step": "", "flip_step": "", "all_steps": ""},
+    "programs": {"Program": "of done trace beginning rearranges reduced"},
+    "places": dict.fromkeys("goes_to comes_from flips_on_way round_trip place_after times_home".split(), ""),
+    "marks": {"Marks": "of_bits many is_none below next_from last_upto nth listed as_bits __contains__ __eq__ __xor__ "
+                       "__and__ __or__ __sub__ __invert__"},
+    "walks": {"behind": "", "far_trace": "", "Parity": "value back is_kept __add__ __eq__", "bit_at": "", "hangs_on": ""},
+    "machines": {"Machine": "moves value sum_for __eq__"},
+    "tables": {"Table": "at flip row next_in_row column next_in_column __eq__"},
+    "sizes": {"Sizes": "least greatest next_from last_upto from_on is_none is_all is_endless within count_upto each "
+                       "halves twice shifted __contains__ __eq__ __or__ __and__ __sub__ __xor__ __invert__",
+              "no_sizes": "", "all_sizes": "", "sizes_upto": "", "sizes_from": "", "only_sizes": "", "sizes_rest": "",
+              "sizes_of_rows": "", "sizes_by": ""},
+    "agree": {"agree_sizes": "", "zero_sizes": ""},
+}
+
 LIBRARY = ("heapq", "math", "itertools", "collections", "__future__")
 
 
@@ -107,6 +128,54 @@ class FormTest(unittest.TestCase):
         for name in files():
             self.assertEqual(nodes(name, ast.AsyncFunctionDef, ast.Await, ast.Div), [], name)
             self.assertEqual([node.value for node in nodes(name, ast.Constant) if isinstance(node.value, float)], [])
+
+    def test_no_floats_no_handlers_no_changes_by_other_signs(self):
+        for name in files():
+            self.assertEqual(nodes(name, ast.Try, ast.Global, ast.Nonlocal, ast.GeneratorExp, ast.NamedExpr), [], name)
+            for node in nodes(name, ast.AugAssign):
+                self.assertIsInstance(node.value, ast.Constant, name)
+
+    def test_methods(self):
+        own = {node.name for name in files() for node in nodes(name, ast.FunctionDef)}
+        stored = {node.attr for name in files() for node in nodes(name, ast.Attribute) if isinstance(node.ctx, ast.Store)}
+        for name in files():
+            called = [node.func.attr for node in nodes(name, ast.Call) if isinstance(node.func, ast.Attribute)]
+            self.assertEqual([word for word in called if word not in METHODS and word not in own | stored
+                              and word != "__init__"], [], name)
+
+    def test_names_are_not_those_of_imports_and_classes(self):
+        for name in files():
+            taken = {alias.name for node in nodes(name, ast.ImportFrom) for alias in node.names}
+            taken |= {node.name for node in nodes(name, ast.ClassDef)}
+            bound = [node.id for node in nodes(name, ast.Name) if isinstance(node.ctx, ast.Store)]
+            bound += [node.arg for node in nodes(name, ast.arg)]
+            bound += [node.name for function in nodes(name, ast.FunctionDef) for node in ast.walk(function)
+                      if isinstance(node, ast.FunctionDef) and node is not function]
+            self.assertEqual([word for word in bound if word in taken], [], name)
+
+    def test_imports_name_the_file_that_defines(self):
+        for name in files():
+            for node in nodes(name, ast.ImportFrom):
+                if node.module.startswith("allwordlengths."):
+                    body = ast.parse(source(node.module.split(".")[1] + ".py")).body
+                    defined = [part.name for part in body if isinstance(part, (ast.FunctionDef, ast.ClassDef))]
+                    defined += [target.id for part in body if isinstance(part, ast.Assign) for target in part.targets]
+                    self.assertEqual([alias.name for alias in node.names if alias.name not in defined], [], name)
+
+    def test_imports_are_used(self):
+        for name in files():
+            used = [node.id for node in nodes(name, ast.Name)]
+            for node in nodes(name, ast.ImportFrom):
+                self.assertEqual([alias.name for alias in node.names if alias.name not in used], [], name)
+
+    def test_interface(self):
+        for module, listed in INTERFACE.items():
+            body = ast.parse(source(module + ".py")).body
+            defined = {node.name: node for node in body if isinstance(node, (ast.FunctionDef, ast.ClassDef))}
+            for word, methods in listed.items():
+                self.assertIn(word, defined, module)
+                own = [node.name for node in defined[word].body if isinstance(node, ast.FunctionDef)]
+                self.assertEqual([method for method in methods.split() if method not in own], [], word)
 
 
 if __name__ == "__main__":
