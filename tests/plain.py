@@ -8,6 +8,7 @@ BY = (-3, -2, -1, 1, 2, 3)
 PAIRS = [(rest, of) for of in (2, 3, 4) for rest in range(of)]
 
 
+@lru_cache(None)
 def expected_steps():
     """For each text of a step its kind, number C, pair (R, M) and the text of its inverse."""
     steps = {}
@@ -194,6 +195,19 @@ def few_places(kind, by, pair, size, i):
     if kind == "near":
         return [j for j in (i, i + by) if j == i or i % of == at and 0 <= j < size], 0
     raise ValueError(kind)
+
+
+def hung_on(text, size, i):
+    """The places on which a bit hangs, and its flip, followed back through steps that hang on few places."""
+    places, flip = {i}, 0
+    for part in (text.split(" then ") if text else [])[::-1]:
+        found = set()
+        for place in places:
+            sources, added = few_places(*expected_steps()[part][:3], size, place)
+            found ^= set(sources)
+            flip ^= added
+        places = found
+    return tuple(sorted(places)), flip
 
 
 def program_texts(seed, many, most, kinds=None):

@@ -8,7 +8,7 @@ from allwordlengths.machines import Machine
 from allwordlengths.programs import Program
 from allwordlengths.tables import Table
 from cases import NO_INTEGERS, Case, K
-from plain import PlainTable, expected_steps, few_places, odd_values, plain_states, program_texts
+from plain import PlainTable, expected_steps, hung_on, odd_values, plain_states, program_texts
 
 EXPECTED = expected_steps()
 STEPS = ["", *EXPECTED]
@@ -35,19 +35,6 @@ STATES = [
     ("sum -3 at 2 of 3 then sum 3 at 2 of 3 then near 3 at 2 of 3 then near -3 at 2 of 3", [24, 61, None, None]),
     ("flip first then sum -3 then sum 3 at 0 of 3 then turn then turn", None),
 ]
-
-
-def hung_on(text, size, i):
-    """The places on which a bit hangs, and its flip, followed back step by step."""
-    places, flip = {i}, 0
-    for part in (text.split(" then ") if text else [])[::-1]:
-        found = set()
-        for place in places:
-            sources, added = few_places(*EXPECTED[part][:3], size, place)
-            found ^= set(sources)
-            flip ^= added
-        places = found
-    return tuple(sorted(places)), flip
 
 
 def looked_at(size):

@@ -11,7 +11,7 @@ from allwordlengths.programs import Program
 from allwordlengths.walks import Parity, behind, bit_at, far_trace, hangs_on
 from cases import NO_INTEGERS, Case, K
 from counted import ends_of, is_marked, many_between, many_marked, runs_at
-from plain import expected_steps, few_places, odd_values, plain_table, program_texts, words_upto
+from plain import expected_steps, hung_on, odd_values, plain_table, program_texts, words_upto
 
 EXPECTED = expected_steps()
 FEW = ("turn", "roll", "deal", "undeal", "swap", "near", "spread", "flip", "flip first", "flip last")
@@ -19,19 +19,6 @@ TEXTS = ["", *EXPECTED, *program_texts(21, 150, 5)]
 FEW_TEXTS = [*[text for text, parts in EXPECTED.items() if parts[0] in FEW], *program_texts(22, 100, 5, FEW)]
 SUMS = [text for text, parts in EXPECTED.items() if parts[0] == "sum"]
 LARGE = (2 ** 97 + 1, K - 1, K)
-
-
-def hung_on(text, size, i):
-    """The places on which a bit hangs, and its flip, followed back step by step."""
-    places, flip = {i}, 0
-    for part in (text.split(" then ") if text else [])[::-1]:
-        found = set()
-        for place in places:
-            sources, added = few_places(*EXPECTED[part][:3], size, place)
-            found ^= set(sources)
-            flip ^= added
-        places = found
-    return tuple(sorted(places)), flip
 
 
 def looked_at(size, ends):
