@@ -1,50 +1,59 @@
 """The machines of steps that are done one after another."""
 
-from allwordlengths.bits import bits_of, full
-from allwordlengths.machines import ends_mask, least_machine, letters_of, start_mask
-from allwordlengths.rules import machine_of_rules
+from allwordlengths.bits import bits_of
+from allwordlengths.machines import ends_mask, least_machine, letters_of, machine_of_rules, machine_of_sum, start_mask
+from allwordlengths.rules import automaton_of
 from allwordlengths.steprules import STAYS, flip_rules, table_rules
-from allwordlengths.vectors import parity, summed
+from allwordlengths.steps import FLIPS
 
 MOST_STATES = 60
+LETTERS = ("000", "001", "010", "011", "100", "101", "110", "111")
+FLIP_LETTERS = ("00", "01", "10", "11")
 
 
-class Chain:
-    """A step put behind others: the sums of own(i, m, k) * ahead(m, .., k), over all m, and of more(i, .., k).
+def chained(rules, letters, ahead, most):
+    """The least machine of the sums of own(i, m, k) * ahead(m, j, k) over all m; refused if it has too many states.
 
-    The three are machines; own is about i, m and k, the other two about k and, ahead of it, the same other numbers. A
-    vector has a bit for each pair of a state of own and a state of ahead, and above these one for each state of more.
+    own tells, modulo 2, how many rules hold; letters are those of the rules. Either of i and j, or both, may be
+    missing. A state of the chain is a state of own and one of ahead.
     """
+    own = automaton_of(letters, rules)
+    tails = letters_of(len(ahead.letters[0]) - 1)
+    wide = ahead.states
+    whole = own.states * wide
+    packs = {pair: packed(ahead, tails, pair, whole) for pair in FLIP_LETTERS}
+    # Where the columns stand for a letter of own: behind those for lower digits of i.
+    places = {letter: number_of(letter[:-2]) * len(tails) * whole for letter in letters}
+    units = []
+    for ways in own.ways:
+        found = [(packs[letter[-2:]], places[letter] + state * wide) for state, letter in ways]
+        units.extend([unit_of(found, at) for at in range(wide)])
+    start = spread(own.start, wide) * start_mask(ahead)
+    ends = spread(own.ends, wide) * ends_mask(ahead)
+    names = letters_of(len(letters[0]) + len(tails[0]) - 2)
+    return least_machine(names, (whole, start, ends, units), most)
 
-    def __init__(self, own, ahead, more):
-        self.own = own
-        self.ahead = ahead
-        self.more = more
-        self.wide = ahead.states
-        self.high = own.states * ahead.states
-        self.start = (start_mask(own) * start_mask(ahead)) | (start_mask(more) << self.high)
-        pairs = spread(ends_mask(own), ahead.states) * ends_mask(ahead)
-        self.asked = pairs | (ends_mask(more) << self.high)
-        # The product of such a spread sum of states of own and of a sum of states of ahead has the pairs of both.
-        self.spreads = {letter: [spread(mask, ahead.states) for mask in own.images[letter]] for letter in own.letters}
-        self.plan = [(letter, outer_letters(letter, ahead.letters)) for letter in ahead.letters]
 
-    def follow(self, vector):
-        """What comes behind a vector, for each letter."""
-        above = vector >> self.high
-        found = [summed(self.more.images[letter], above) << self.high for letter in self.more.letters]
-        for state in range(self.own.states):
-            block = (vector >> (self.wide * state)) & full(self.wide)
-            if block > 0:
-                for inner, outer in self.plan:
-                    part = summed(self.ahead.images[inner], block)
-                    for place, letter in outer:
-                        found[place] = found[place] ^ (part * self.spreads[letter][state])
-        return found
+def unit_of(packs, at):
+    """The sum of the members with an index of lists of packed columns, each at its own place."""
+    total = 0
+    for pack, place in packs:
+        total = total ^ (pack[at] << place)
+    return total
 
-    def worth(self, vector):
-        """The value of a vector."""
-        return parity(vector & self.asked)
+
+def packed(ahead, tails, pair, whole):
+    """For each state of ahead its columns for the letters with a pair of digits of m and k, side by side.
+
+    Each has as many bits as the chain has states; they stand in the order of tails, the letters of j and k.
+    """
+    chosen = [(ahead.columns[f"{pair[0]}{tail}"], whole * at) for at, tail in enumerate(tails) if tail[-1] == pair[1]]
+    return [sum([column[state] << place for column, place in chosen]) for state in range(ahead.states)]
+
+
+def number_of(text):
+    """The number with these digits to the base 2, the highest one first; 0 without digits."""
+    return 0 if text == "" else int(text, 2)
 
 
 def spread(mask, wide):
@@ -52,29 +61,30 @@ def spread(mask, wide):
     return sum([1 << (wide * place) for place in bits_of(mask)])
 
 
-def outer_letters(inner, letters):
-    """For each digit of i the place of the letter of i and of what follows m in inner, and the letter of i, m and k."""
-    digit_m, tail, digit_k = inner[0], inner[1:], inner[-1]
-    return [(letters.index(f"{digit}{tail}"), f"{digit}{digit_m}{digit_k}") for digit in "01"]
+def first_table():
+    """The machine of T of the program without steps."""
+    return machine_of_rules(LETTERS, [STAYS])
 
 
-def put_behind(own, ahead, more, most):
-    """The least machine of a chain; it is refused if it has more than most states."""
-    chain = Chain(own, ahead, more)
-    return least_machine(ahead.letters, chain.start, chain.follow, chain.worth, most)
+def table_behind(step, table):
+    """The machine of T if a step stands behind others; refused if it has too many states."""
+    if step.kind in FLIPS:
+        return table
+    return chained(table_rules(step), LETTERS, table, MOST_STATES)
+
+
+def flips_behind(step, flips):
+    """The machine of F if a step stands behind others; no bound is told for it."""
+    if step.kind in FLIPS:
+        return machine_of_sum(machine_of_rules(FLIP_LETTERS, flip_rules(step)), flips)
+    return chained(table_rules(step), LETTERS, flips, None) if flips.states > 0 else flips
 
 
 def machines_of(steps):
     """The machine of T and that of F for a list or tuple of steps; refused if one of T has too many states."""
-    letters = letters_of(3)
-    flip_letters = letters_of(2)
-    nothing = machine_of_rules(letters, [])
-    table = machine_of_rules(letters, [STAYS])
-    flips = machine_of_rules(flip_letters, [])
+    table = first_table()
+    flips = machine_of_rules(FLIP_LETTERS, [])
     for step in steps:
-        own = machine_of_rules(letters, table_rules(step))
-        table = put_behind(own, table, nothing, MOST_STATES)
-        # No bound is told for the machine of F; it has no more states than a chain has pairs and states of more.
-        own_flips = machine_of_rules(flip_letters, flip_rules(step))
-        flips = put_behind(own, flips, own_flips, own.states * flips.states + own_flips.states)
+        table = table_behind(step, table)
+        flips = flips_behind(step, flips)
     return table, flips

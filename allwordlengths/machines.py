@@ -1,20 +1,29 @@
 """Least machines: functions of rows of letters, told by a few paths whose sums come behind all others."""
 
 from allwordlengths.bits import bits_of
-from allwordlengths.errors import BadLetter, TooLarge
-from allwordlengths.vectors import kept, parity, sifted, summed, transposed
+from allwordlengths.errors import BadLetter
+from allwordlengths.rules import automaton_of
+from allwordlengths.vectors import columns_of, parity, reached_from, summed
 
 
 class Machine:
     """A least machine; callers do not make it."""
 
-    def __init__(self, letters, paths, ends, images):
+    def __init__(self, letters, paths, ends, rows):
         self.letters = letters
         self.paths = paths
         self.states = len(paths)
         self.ends = ends
         # For each letter the tuple of masks: of the new paths whose sum comes behind each one with this letter more.
-        self.images = images
+        self.images = {letter: tuple([row[at] for row in rows]) for at, letter in enumerate(letters)}
+        self._columns = None
+
+    @property
+    def columns(self):
+        """For each letter a mask for each new path: of those with whose sums, by this letter more, it is reached."""
+        if self._columns is None:
+            self._columns = {letter: columns_of(self.images[letter], self.states) for letter in self.letters}
+        return self._columns
 
     def __eq__(self, other):
         return isinstance(other, Machine) and parts_of(self) == parts_of(other)
@@ -80,68 +89,55 @@ def letters_of(digits):
     return tuple(letters)
 
 
-def paths_from(letters, start, follow):
-    """The vectors that are not sums of those of earlier paths, their paths, and what comes behind them.
+def least_machine(letters, parts, most):
+    """The least machine of sums of states; it is refused if it has more than most states, which may be None.
 
-    This is told by a list for each vector, with a mask for each letter: of the vectors whose sum comes behind it.
+    parts are a tuple (wide, start, ends, units): how many states there are, the masks of those whose sum comes behind
+    the empty path and of those that have the value 1, and for each state a mask of wide bits for each letter, side by
+    side: of the states behind which, with this letter more, a sum comes in which it stands.
     """
-    known = {}
-    vectors = []
-    paths = []
-    images = []
-    if kept(known, vectors, start) > 0:
-        paths.append("")
-    while len(images) < len(vectors):
-        path = paths[len(images)]
-        reached_next = follow(vectors[len(images)])
-        masks = []
-        for letter, vector in zip(letters, reached_next):
-            masks.append(kept(known, vectors, vector))
-            if len(vectors) > len(paths):
-                paths.append(letter if path == "" else f"{path} {letter}")
-        images.append(masks)
-    return vectors, paths, images
+    wide, start, ends, units = parts
+    many = len(letters)
+    # A form is a mask of states whose values are added. What comes behind a path is told by the values that all forms
+    # have behind it, so the paths are compared by these, and states that are sums of others do no harm.
+    forms, behind = reached_from(ends, units, many, wide, None)
+    first = sum([parity(form & start) << place for place, form in enumerate(forms)])
+    steps = columns_of([row[at] for at in range(many) for row in behind], len(forms))
+    vectors, rows = reached_from(first, steps, many, len(forms), most)
+    # The first form asks for the values themselves.
+    return Machine(letters, paths_of(letters, rows), tuple([vector & 1 for vector in vectors]), rows)
 
 
-def forms_behind(columns, ends, most):
-    """The forms that tell all values behind vectors; none of them is a sum of others.
-
-    A form is the mask of the vectors for which it has the value 1. ends is the form for the values of the vectors, and
-    columns has for each letter the columns of the masks that paths_from tells.
-    """
-    known = {}
-    forms = []
-    kept(known, forms, ends)
-    at = 0
-    while at < len(forms):
-        for letter_columns in columns:
-            kept(known, forms, summed(letter_columns, forms[at]))
-        if len(forms) > most:
-            raise TooLarge(most)
-        at = at + 1
-    return forms
+def paths_of(letters, rows):
+    """The tuple of the new paths, for the masks of the new paths behind each of them with each letter more."""
+    paths = [""] if rows else []
+    for at, row in enumerate(rows):
+        for letter, mask in zip(letters, row):
+            if mask == 1 << len(paths):
+                paths.append(letter if paths[at] == "" else f"{paths[at]} {letter}")
+    return tuple(paths)
 
 
-def least_machine(letters, start, follow, value, most):
-    """The least machine of vectors; it is refused if it has more than most states.
+def machine_of_rules(letters, rules):
+    """The least machine that tells, modulo 2, how many of some rules hold for numbers."""
+    automaton = automaton_of(letters, rules)
+    wide = automaton.states
+    places = {letter: wide * at for at, letter in enumerate(letters)}
+    units = [sum([1 << (places[letter] + state) for state, letter in ways]) for ways in automaton.ways]
+    return least_machine(letters, (wide, automaton.start, automaton.ends, units), None)
 
-    start is the vector of the empty path. follow tells the list of what comes behind a vector, for each letter, and
-    value its value; of a sum of vectors they tell the sums.
-    """
-    vectors, paths, images = paths_from(letters, start, follow)
-    ends = [value(vector) for vector in vectors]
-    ends_asked = sum([end << number for number, end in enumerate(ends)])
-    columns = [transposed([masks[at] for masks in images], len(vectors)) for at in range(len(letters))]
-    # What comes behind a path is told by the values of all forms, so paths are compared by these.
-    seen = transposed(forms_behind(columns, ends_asked, most), len(vectors))
-    known = {}
-    chosen = []
-    new = []
-    for number, values in enumerate(seen):
-        kept(known, chosen, values)
-        if len(chosen) > len(new):
-            new.append(number)
-    told = {}
-    for at, letter in enumerate(letters):
-        told[letter] = tuple([sifted(known, summed(seen, images[number][at]))[1] for number in new])
-    return Machine(letters, tuple([paths[number] for number in new]), tuple([ends[number] for number in new]), told)
+
+def machine_of_sum(one, other):
+    """The least machine of the sum of what two machines with the same letters tell."""
+    wide = one.states + other.states
+    start = start_mask(one) | (start_mask(other) << one.states)
+    ends = ends_mask(one) | (ends_mask(other) << one.states)
+    units = units_of(one, wide)
+    units.extend([unit << one.states for unit in units_of(other, wide)])
+    return least_machine(one.letters, (wide, start, ends, units), None)
+
+
+def units_of(machine, wide):
+    """For each new path of a machine its columns for all letters, side by side, each in so many bits."""
+    columns = [machine.columns[letter] for letter in machine.letters]
+    return [sum([column[at] << (wide * place) for place, column in enumerate(columns)]) for at in range(machine.states)]

@@ -1,92 +1,104 @@
-"""Rules about numbers that go by their digits, and the least machines of such rules.
+"""Rules about numbers that go by their digits, the lowest ones first.
 
-A rule is a tuple of tests that all have to hold. A test is a tuple (kind, counts, plus, of) about the sum of plus and
-of the numbers, each as often as counts tells: whether it is 0, or below 0, or a multiple of `of`.
+A rule is a tuple of tests that all have to hold. A test is a pair (question, key). The question is a pair
+(kind, counts): counts tells how often each number is added; whether what is added, and what is known already, is 0,
+is below 0 or is a multiple of a number is asked. The key is what is known already. So the question stays the same when
+the lowest digits have been read, and only the key changes.
 """
 
-from allwordlengths.machines import least_machine
-from allwordlengths.vectors import summed
+from allwordlengths.bits import full
 
 
 def is_zero(counts, plus):
     """The test whether a sum is 0."""
-    return "zero", counts, plus, 1
+    return ("zero", counts), plus
 
 
 def is_below(counts, plus):
     """The test whether a sum is below 0."""
-    return "below", counts, plus, 1
+    return ("below", counts), plus
 
 
 def is_multiple(counts, plus, of):
     """The test whether a sum is a multiple of a number."""
-    return "multiple", counts, plus, of
+    return ("multiple", counts), (plus % of, of)
 
 
-def first_key(test):
-    """What is known for a test ahead of all digits."""
-    kind, _, plus, of = test
-    return (plus % of, 1) if kind == "multiple" else (plus, 0)
+def next_key(kind, key, total):
+    """The key behind one more digit of each number, which add up to a total; None if the test cannot hold any more.
+
+    The digits that follow weigh twice as much, so the same is asked of them and of half of what is known.
+    """
+    if kind == "below":
+        return (key + total) // 2
+    if kind == "zero":
+        return (key + total) // 2 if (key + total) % 2 == 0 else None
+    known, of = key
+    if of % 2 == 1:
+        return (known + total) * (of + 1) // 2 % of, of
+    return ((known + total) // 2 % (of // 2), of // 2) if (known + total) % 2 == 0 else None
 
 
-def next_key(test, key, digits):
-    """What is known for a test with one more digit of each number, or None if it cannot hold any more."""
-    kind, counts, _, of = test
-    told, weight = key
-    total = sum([count * digit for count, digit in zip(counts, digits)])
-    if kind == "multiple":
-        return (told + weight * total) % of, 2 * weight % of
-    if kind == "zero" and (told + total) % 2 == 1:
-        return None
-    # The digits that follow weigh twice as much, so the test asks the same of them and of half of what is known.
-    return (told + total) // 2, 0
+def next_keys(test):
+    """The list of the keys of a test behind each letter, in the order of the letters."""
+    (kind, counts), key = test
+    totals = [0]
+    for count in counts:
+        totals = [total + more for total in totals for more in (0, count)]
+    return [next_key(kind, key, total) for total in totals]
 
 
-def holds(test, key):
+def holds(question, key):
     """Whether a test holds if no digits 1 follow."""
-    told, _ = key
-    return told < 0 if test[0] == "below" else told == 0
+    kind, _ = question
+    if kind == "below":
+        return key < 0
+    return key == 0 if kind == "zero" else key[0] == 0
 
 
-def first_state(rule):
-    """What is known for a rule ahead of all digits: the rule, and what is known for each test."""
-    return rule, tuple([first_key(test) for test in rule])
+class Automaton:
+    """What tells, modulo 2, how many of some rules hold: states, from which a letter leads to one state at most.
+
+    start and ends are the masks of the states at which reading begins, and of those whose rules hold if no digits 1
+    follow; ways has for each state the list of the pairs (state, letter) that lead to it.
+    """
+
+    def __init__(self, start, ends, ways):
+        self.start = start
+        self.ends = ends
+        self.states = len(ways)
+        self.ways = ways
 
 
-def next_state(state, digits):
-    """What is known for a rule with one more digit of each number, or None if it cannot hold any more."""
-    rule, keys = state
-    found = [next_key(test, key, digits) for test, key in zip(rule, keys)]
-    return None if None in found else (rule, tuple(found))
+def automaton_of(letters, rules):
+    """The Automaton of rules, no two of which are equal and each of which has at least one test."""
+    states = [(tuple([question for question, _ in rule]), tuple([key for _, key in rule])) for rule in rules]
+    places = {state: place for place, state in enumerate(states)}
+    start = full(len(states))
+    ways = [[] for _ in states]
+    behind = {}
+    at = 0
+    while at < len(states):
+        questions, keys = states[at]
+        tests = list(zip(questions, keys))
+        for test in tests:
+            if test not in behind:
+                behind[test] = next_keys(test)
+        columns = [behind[test] for test in tests]
+        for letter, found in zip(letters, list(zip(*columns))):
+            if None not in found:
+                state = (questions, found)
+                if state not in places:
+                    places[state] = len(states)
+                    states.append(state)
+                    ways.append([])
+                ways[places[state]].append((at, letter))
+        at = at + 1
+    ends = sum([end_value(state) << place for place, state in enumerate(states)])
+    return Automaton(start, ends, ways)
 
 
 def end_value(state):
-    """1 if a rule holds if no digits 1 follow, and 0 otherwise."""
-    rule, keys = state
-    return int(all([holds(test, key) for test, key in zip(rule, keys)]))
-
-
-def machine_of_rules(letters, rules):
-    """The least machine that tells, modulo 2, how many of some rules, no two of which are equal, hold for numbers."""
-    states = [first_state(rule) for rule in rules]
-    places = {state: place for place, state in enumerate(states)}
-    start = (1 << len(states)) - 1
-    rows = {letter: [] for letter in letters}
-    at = 0
-    while at < len(states):
-        for letter in letters:
-            state = next_state(states[at], [int(digit) for digit in letter])
-            if state is not None and state not in places:
-                places[state] = len(states)
-                states.append(state)
-            rows[letter].append(0 if state is None else 1 << places[state])
-        at = at + 1
-    ends = [end_value(state) for state in states]
-
-    def follow(vector):
-        return [summed(rows[word], vector) for word in letters]
-
-    def value(vector):
-        return summed(ends, vector)
-
-    return least_machine(letters, start, follow, value, len(states))
+    """1 if the rule of a state holds if no digits 1 follow, and 0 otherwise."""
+    questions, keys = state
+    return int(all([holds(question, key) for question, key in zip(questions, keys)]))

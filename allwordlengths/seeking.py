@@ -2,12 +2,7 @@
 
 from allwordlengths.errors import TooMany
 from allwordlengths.machines import ends_mask, start_mask
-from allwordlengths.vectors import parity, spanned, summed, transposed
-
-
-def columns_of(machine):
-    """For each letter of a machine what a search needs: the columns of the masks that tell its moves."""
-    return {letter: transposed(machine.images[letter], machine.states) for letter in machine.letters}
+from allwordlengths.vectors import parity, spanned, summed
 
 
 class Search:
@@ -17,10 +12,10 @@ class Search:
     is a mask of new paths: it asks for the sum of their values once the digits above a place have been read.
     """
 
-    def __init__(self, machine, columns, forks):
+    def __init__(self, machine, forks):
         self.forks = forks
         self.top = ends_mask(machine)
-        self.columns = columns
+        self.machine = machine
         self.spans = [spanned([start_mask(machine)])]
         for fork in forks:
             found = [summed(machine.images[letter], vector) for letter in fork for vector in self.spans[-1]]
@@ -28,7 +23,7 @@ class Search:
 
     def with_digit(self, form, place, digit):
         """The form that asks the same with a digit at a place known, too."""
-        return summed(self.columns[self.forks[place][digit]], form)
+        return summed(self.machine.columns[self.forks[place][digit]], form)
 
     def can_be(self, form, place):
         """Whether the digits below a place can be such that a form has the value 1."""

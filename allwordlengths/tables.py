@@ -3,7 +3,7 @@
 from allwordlengths.chains import machines_of
 from allwordlengths.checks import check_count, check_number, check_size
 from allwordlengths.machines import ends_mask, followed
-from allwordlengths.seeking import Search, columns_of
+from allwordlengths.seeking import Search
 from allwordlengths.vectors import parity
 
 MOST_LISTED = 1000
@@ -17,7 +17,6 @@ class Table:
         self.program = program
         self.machine = table
         self.flip_machine = flips
-        self.columns = columns_of(table)
 
     def __eq__(self, other):
         return (isinstance(other, Table) and self.machine == other.machine
@@ -85,13 +84,13 @@ def told_for(machine, places, k):
 def row_search(table, i, k):
     """The search among the places j for a place i and a size k."""
     forks = [(f"{digit}0{last}", f"{digit}1{last}") for digit, last in known_digits(i, k)]
-    return Search(table.machine, table.columns, forks)
+    return Search(table.machine, forks)
 
 
 def column_search(table, j, k):
     """The search among the places i for a place j and a size k."""
     forks = [(f"0{digit}{last}", f"1{digit}{last}") for digit, last in known_digits(j, k)]
-    return Search(table.machine, table.columns, forks)
+    return Search(table.machine, forks)
 
 
 def known_digits(place, k):

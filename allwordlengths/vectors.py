@@ -1,15 +1,17 @@
 """Sums modulo 2 of vectors. A vector is an integer from 0 on, with a bit for each number that it has."""
 
-from allwordlengths.bits import bits_of
+from allwordlengths.bits import full
+from allwordlengths.errors import TooLarge
 
 
 def summed(rows, mask):
     """The sum of those rows whose places are the bits 1 of a mask."""
-    text = f"{mask:b}"
     total = 0
-    for row, sign in zip(rows, text[::-1]):
-        if sign == "1":
-            total = total ^ row
+    left = mask
+    while left > 0:
+        place = left.bit_length() - 1
+        total = total ^ rows[place]
+        left = left ^ (1 << place)
     return total
 
 
@@ -19,13 +21,18 @@ def parity(mask):
     return text.count("1") % 2
 
 
-def transposed(rows, many):
-    """The many columns of rows: the bit n of the column c is the bit c of the row n."""
-    columns = [0] * many
-    for place, row in enumerate(rows):
-        for column in bits_of(row):
-            columns[column] = columns[column] | (1 << place)
-    return columns
+def padded(mask, many):
+    """The text of the bits of a mask, which has at most so many of them, the highest one first."""
+    text = f"{mask:b}"
+    return text.zfill(many)
+
+
+def columns_of(rows, many):
+    """The list of the many columns of rows: the bit n of the column c is the bit c of the row n."""
+    if len(rows) == 0:
+        return [0] * many
+    text = "".join([padded(row, many) for row in rows[::-1]])
+    return [int(text[many - 1 - column::many], 2) for column in range(many)]
 
 
 def sifted(known, vector):
@@ -42,15 +49,45 @@ def sifted(known, vector):
     return left, mask
 
 
-def kept(known, vectors, vector):
-    """The mask of those vectors of a list whose sum a vector is; if it is the sum of none, it is put behind them."""
-    left, mask = sifted(known, vector)
-    if left == 0:
-        return mask
-    own = 1 << len(vectors)
-    known[left.bit_length()] = (left, mask ^ own)
-    vectors.append(vector)
-    return own
+class Basis:
+    """A list of vectors none of which is a sum of those ahead of it."""
+
+    def __init__(self):
+        self.vectors = []
+        self.known = {}
+        # For each vector that was asked for before, the mask of those whose sum it is.
+        self.told = {0: 0}
+
+    def mask_of(self, vector):
+        """The mask of those vectors whose sum a vector is; if it is the sum of none, it is put behind them."""
+        if vector not in self.told:
+            left, mask = sifted(self.known, vector)
+            if left > 0:
+                own = 1 << len(self.vectors)
+                self.known[left.bit_length()] = (left, mask ^ own)
+                self.vectors.append(vector)
+                mask = own
+            self.told[vector] = mask
+        return self.told[vector]
+
+
+def reached_from(start, steps, many, wide, most):
+    """The vectors that are reached from one by steps and are not sums of earlier ones, and where each step leads.
+
+    There are many steps. For each bit of a vector steps has what they make of it: a vector of wide bits for each step,
+    side by side in one integer. Where they lead is told by a list for each vector, with the mask of the vectors whose
+    sum it is for each step. It is refused if there are more than most vectors; most may be None.
+    """
+    basis = Basis()
+    basis.mask_of(start)
+    whole = full(wide)
+    rows = []
+    while len(rows) < len(basis.vectors):
+        found = summed(steps, basis.vectors[len(rows)])
+        rows.append([basis.mask_of((found >> (wide * step)) & whole) for step in range(many)])
+        if most is not None and len(basis.vectors) > most:
+            raise TooLarge(most)
+    return basis.vectors, rows
 
 
 def spanned(vectors):
