@@ -75,12 +75,15 @@ def joined_rows(one, other, insides):
 
 
 def least_rows(rows, most):
-    """The tuple of rows for the classes of rows of digits that are alike; refused if there are more than most."""
+    """The tuple of rows for the classes of rows of digits that are alike; refused if there are more than most.
+
+    If most is None, there may be any number of them.
+    """
     classes = [inside for _, _, inside in rows]
     many = len(set(classes))
     while True:
         finer = finer_classes(rows, classes)
-        if max(finer) >= most:
+        if most is not None and max(finer) >= most:
             raise TooMany(most)
         if max(finer) + 1 == many:
             return numbered_rows(rows, finer)

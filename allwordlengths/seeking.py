@@ -68,3 +68,43 @@ class Search:
             if len(known) > most:
                 raise TooMany(most)
         return [value for value, _ in known]
+
+
+def least_first_place(machine, k):
+    """The least place, told by the first digits of the letters, for which a machine tells 1 with some others; or None.
+
+    k is the size, whose digits are the last ones of the letters.
+    """
+    many = k.bit_length()
+    forks = [forked(machine.letters, str((k >> place) & 1)) for place in range(many)]
+    spans = [spanned([start_mask(machine)])]
+    for zero, one in forks:
+        spans.append(mapped(machine.images, [*zero, *one], spans[-1]))
+    # The forms ask for the values with all digits of the other places above a place.
+    forms = (ends_mask(machine),)
+    if not are_met(spans[many], forms):
+        return None
+    value = 0
+    for place in reversed(range(many)):
+        zero, one = forks[place]
+        likely = mapped(machine.columns, zero, forms)
+        digit = 0 if are_met(spans[place], likely) else 1
+        forms = likely if digit == 0 else mapped(machine.columns, one, forms)
+        value = 2 * value + digit
+    return value
+
+
+def forked(letters, last):
+    """The letters with a last digit that have the first digit 0, and those that have the first digit 1."""
+    chosen = [letter for letter in letters if letter[-1] == last]
+    return [letter for letter in chosen if letter[0] == "0"], [letter for letter in chosen if letter[0] == "1"]
+
+
+def mapped(rows, letters, vectors):
+    """The vectors that tell all sums of what some vectors become by some letters, for which rows tell this."""
+    return spanned([summed(rows[letter], vector) for letter in letters for vector in vectors])
+
+
+def are_met(vectors, forms):
+    """Whether one of some vectors has the value 1 for one of some forms."""
+    return any([parity(vector & form) == 1 for vector in vectors for form in forms])

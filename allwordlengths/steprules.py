@@ -1,6 +1,7 @@
 """The rules of each step: on which bits a bit of its result hangs, and where it adds 1."""
 
 from allwordlengths.rules import is_below, is_multiple, is_zero
+from allwordlengths.steps import RESTS
 
 # The tests about i, j and k in this order whether i is a place and whether j is i, and the rule of a bit that stays.
 PLACE = (("below", (1, 0, -1)), 0)
@@ -35,15 +36,21 @@ def table_rules(step):
 
 
 def flip_rules(step):
-    """The rules about i and k of which an odd number holds if a step adds 1 to the bit i."""
-    if step.kind == "flip":
-        at, of = step.rest
-        return [(is_below((1, -1), 0), is_multiple((1, 0), -at, of))]
-    if step.kind == "flip first":
-        return [(is_below((1, -1), 0), is_zero((1, 0), 0))]
-    if step.kind == "flip last":
+    """The rules about i and k of which an odd number holds if a flip adds 1 to the bit i."""
+    return choice_rules(step.text[len("flip "):])
+
+
+def choice_rules(choice):
+    """The rules about i and k of which an odd number holds if i is a place of a choice: all, first, last or R of M."""
+    place = is_below((1, -1), 0)
+    if choice == "all":
+        return [(place,)]
+    if choice == "first":
+        return [(place, is_zero((1, 0), 0))]
+    if choice == "last":
         return [(is_zero((1, -1), 1),)]
-    return []
+    at, of = RESTS[choice]
+    return [(place, is_multiple((1, 0), -at, of))]
 
 
 def chosen_tests(rest):

@@ -40,28 +40,28 @@ class Table:
         check_count(i)
         check_size(k)
         check_number(most, 0, MOST_LISTED)
-        return tuple(row_search(self, i, k).listed(most))
+        return tuple(row_search(self.machine, i, k).listed(most))
 
     def next_in_row(self, i, k, low):
         """The least place not below low on which bit i of the result hangs for words of k bits, or None."""
         check_count(i)
         check_size(k)
         check_count(low)
-        return row_search(self, i, k).least_from(low)
+        return row_search(self.machine, i, k).least_from(low)
 
     def column(self, j, k, most):
         """The tuple of the places, at most most, whose bits in the result hang on bit j for words of k bits."""
         check_count(j)
         check_size(k)
         check_number(most, 0, MOST_LISTED)
-        return tuple(column_search(self, j, k).listed(most))
+        return tuple(column_search(self.machine, j, k).listed(most))
 
     def next_in_column(self, j, k, low):
         """The least place not below low whose bit in the result hangs on bit j for words of k bits, or None."""
         check_count(j)
         check_size(k)
         check_count(low)
-        return column_search(self, j, k).least_from(low)
+        return column_search(self.machine, j, k).least_from(low)
 
 
 def digits_of(number, many):
@@ -81,16 +81,16 @@ def told_for(machine, places, k):
     return parity(followed(machine, letters) & ends_mask(machine))
 
 
-def row_search(table, i, k):
+def row_search(machine, i, k):
     """The search among the places j for a place i and a size k."""
     forks = [(f"{digit}0{last}", f"{digit}1{last}") for digit, last in known_digits(i, k)]
-    return Search(table.machine, forks)
+    return Search(machine, forks)
 
 
-def column_search(table, j, k):
+def column_search(machine, j, k):
     """The search among the places i for a place j and a size k."""
     forks = [(f"0{digit}{last}", f"1{digit}{last}") for digit, last in known_digits(j, k)]
-    return Search(table.machine, forks)
+    return Search(machine, forks)
 
 
 def known_digits(place, k):

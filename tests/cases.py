@@ -21,3 +21,22 @@ class Case(unittest.TestCase):
             self.assertEqual((type(found), found), (type(value), value))
         else:
             self.assertIs(found, value)
+
+# Programs whose tables are refused; the first one as soon as its first step is put behind.
+LARGE = ("deal then sum 3 at 0 of 3", "sum -3 at 2 of 3 then sum 3 at 2 of 3", "turn then deal then deal then near 1 then sum 3")
+
+# Pairs of texts of programs that are alike at all sizes.
+REWRITTEN = (
+    ("", "turn then turn"), ("near 2 then sum 2", ""), ("near 1 then near 1", "near 2"), ("deal then undeal", ""),
+    ("near 1 then near 1 then near 1 then near 1", "near 2 then near 2"), ("turn then sum 3 then turn", "sum -3"),
+    ("roll 2 then roll -3", "roll -1"), ("turn then roll 2 then turn", "roll -2"), ("swap then swap", "gather then gather"),
+    ("flip 0 of 2 then flip 1 of 2", "flip 1 of 2 then flip 0 of 2"), ("flip 0 of 4 then flip 2 of 4", "flip 0 of 2"),
+    ("sum 2 at 0 of 2 then sum 2 at 1 of 2", "sum 2"), ("turn then flip last", "flip first then turn"),
+    ("spread then spread", "roll 3 then roll -3"), ("near 3 then sum 1", "sum 1 then near 3"),
+    ("near 1 at 1 of 2 then near 1 at 1 of 2", ""), ("roll 1 then deal then undeal", "deal then undeal then roll 1"),
+)
+
+
+def far_sizes(random, many):
+    """Sizes without a pattern up to 10 ** 30, and some that stand at its edge."""
+    return [K, K - 1, 2 ** 99, 2 ** 97 + 1, *[random.randint(1, 10 ** random.randint(1, 30)) for _ in range(many)]]

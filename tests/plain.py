@@ -312,3 +312,33 @@ def plain_states(text, most):
     for path in found:
         found += [longer for longer in [put(path, letter) for letter in letters_of(3)] if sums.add(rows(longer))]
     return len(found)
+
+
+def are_alike(one, other, k):
+    """Whether two programs, told by texts of any number of steps, make the same word of each word of size k."""
+    return plain_table(one, k) == plain_table(other, k)
+
+
+def plain_first_apart(one, other, upto):
+    """The least size up to a bound, and the places, at which two programs are not alike; None if there is none."""
+    for k in range(1, upto + 1):
+        for i, (first, second) in enumerate(zip(plain_table(one, k), plain_table(other, k))):
+            if first[1] != second[1]:
+                return k, i, None
+            if first[0] != second[0]:
+                mask = first[0] ^ second[0]
+                return k, i, (mask & -mask).bit_length() - 1
+    return None
+
+
+def chosen_places(choice, size):
+    """The places of a choice."""
+    if choice == "all":
+        return list(range(size))
+    if choice in ("first", "last"):
+        return [0 if choice == "first" else size - 1]
+    at, of = [int(part) for part in choice.split(" of ")]
+    return [place for place in range(size) if place % of == at]
+
+
+CHOICES = ["all", "first", "last", *["%d of %d" % pair for pair in PAIRS]]

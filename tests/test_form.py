@@ -38,6 +38,9 @@ INTERFACE = {
               "no_sizes": "", "all_sizes": "", "sizes_upto": "", "sizes_from": "", "only_sizes": "", "sizes_rest": "",
               "sizes_of_rows": "", "sizes_by": ""},
     "agree": {"agree_sizes": "", "zero_sizes": ""},
+    "compare": {"alike": "", "apart_sizes": "", "alike_at": "", "first_apart": ""},
+    "powers": {"back_sizes": "", "commute_sizes": "", "takes_back_sizes": ""},
+    "kept": {"kept_sizes": "", "turned_sizes": ""},
 }
 
 LIBRARY = ("heapq", "math", "itertools", "collections", "__future__")
