@@ -38,3 +38,10 @@ def word_of_bits(bits, most=MOST_BITS):
             raise BadBits(index)
     # By way of a list, as the tuple of a tuple would be the very tuple that was passed.
     return tuple(list(bits))
+
+
+def is_word(value):
+    """Whether any value is a word of bits of at most 1000 bits."""
+    if not isinstance(value, (list, tuple)) or not 1 <= len(value) <= MOST_BITS:
+        return False
+    return all([is_number(bit, 0, 1) for bit in value])

@@ -162,7 +162,11 @@ def all_sizes():
 def sizes_from(k):
     """The set of all sizes from k on."""
     check_size(k)
+    return sizes_told(rows_from(k))
 
+
+def rows_from(k):
+    """The rows of all sizes from k on."""
     # A key is what the number of the digits that follow has to reach.
     def step(key, digit):
         return (key - digit + 1) // 2
@@ -170,7 +174,7 @@ def sizes_from(k):
     def inside(key):
         return key == 0
 
-    return sizes_of_keys(k, step, inside, None)
+    return settled_rows(rows_of_keys(k, step, inside, None), 0)
 
 
 def sizes_upto(k):

@@ -64,6 +64,11 @@ class Table:
         return column_search(self.machine, j, k).least_from(low)
 
 
+def machines_told(program):
+    """The pair of the machines of T and of F of a program; it is refused as Table refuses it."""
+    return machines_of(program.steps)
+
+
 def digits_of(number, many):
     """The text of the many lowest digits of a number to the base 2, the lowest one first."""
     text = f"{number:b}"

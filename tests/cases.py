@@ -2,6 +2,9 @@
 
 import unittest
 
+from allwordlengths.errors import TooLarge
+from allwordlengths.programs import Program
+from allwordlengths.tables import Table
 from plain import Odd, odd_values
 
 K = 10 ** 30
@@ -21,6 +24,15 @@ class Case(unittest.TestCase):
             self.assertEqual((type(found), found), (type(value), value))
         else:
             self.assertIs(found, value)
+
+def is_refused(text):
+    """Whether the table of a program is refused."""
+    try:
+        Table(Program(text))
+    except TooLarge:
+        return True
+    return False
+
 
 # Programs whose tables are refused; the first one as soon as its first step is put behind.
 LARGE = ("deal then sum 3 at 0 of 3", "sum -3 at 2 of 3 then sum 3 at 2 of 3", "turn then deal then deal then near 1 then sum 3")

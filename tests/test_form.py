@@ -23,7 +23,7 @@ METHODS = """append clear copy count endswith extend find get index insert isaln
 isupper items join keys ljust lower lstrip partition pop remove replace reverse rfind rjust rpartition rsplit rstrip
 setdefault split splitlines startswith strip update upper values zfill bit_length add discard""".split()
 
-# What the document's interface lists for the modules that are there so far, with the methods of their classes.
+# What the document's interface lists, with the methods of the classes.
 INTERFACE = {
     "steps": {"Step": "done", "roll_step": "", "near_step": "", "sum_step": "", "flip_step": "", "all_steps": ""},
     "programs": {"Program": "of done trace beginning rearranges reduced"},
@@ -41,6 +41,11 @@ INTERFACE = {
     "compare": {"alike": "", "apart_sizes": "", "alike_at": "", "first_apart": ""},
     "powers": {"back_sizes": "", "commute_sizes": "", "takes_back_sizes": ""},
     "kept": {"kept_sizes": "", "turned_sizes": ""},
+    "hanging": {"hangs_sizes": "", "flipped_sizes": "", "same_bit_sizes": ""},
+    "shortest": {"shortest": ""},
+    "told": dict.fromkeys("fits candidates agreed_sizes question learned".split(), ""),
+    "bench": {"Bench": "drop turn_back chain written read undo redo at_once groups groups_at "
+                       "__setitem__ __getitem__ __contains__ __len__ __iter__ __eq__"},
 }
 
 LIBRARY = ("heapq", "math", "itertools", "collections", "__future__")
@@ -132,9 +137,21 @@ class FormTest(unittest.TestCase):
             self.assertEqual(nodes(name, ast.AsyncFunctionDef, ast.Await, ast.Div), [], name)
             self.assertEqual([node.value for node in nodes(name, ast.Constant) if isinstance(node.value, float)], [])
 
-    def test_no_floats_no_handlers_no_changes_by_other_signs(self):
+    def test_handlers(self):
+        """Only errors of the package are caught; a block that is done in any case assigns, and asks for None."""
+        errors = [node.name for node in nodes("errors.py", ast.ClassDef)]
         for name in files():
-            self.assertEqual(nodes(name, ast.Try, ast.Global, ast.Nonlocal, ast.GeneratorExp, ast.NamedExpr), [], name)
+            for node in nodes(name, ast.ExceptHandler):
+                caught = node.type.elts if isinstance(node.type, ast.Tuple) else [node.type]
+                self.assertEqual([part.id for part in caught if part.id not in errors], [], name)
+            for node in nodes(name, ast.Try):
+                for part in node.finalbody:
+                    self.assertTrue(isinstance(part, ast.If) and isinstance(part.test.ops[0], ast.Is), name)
+                    self.assertTrue(all(isinstance(row, ast.Assign) for row in part.body), name)
+
+    def test_no_changes_by_other_signs(self):
+        for name in files():
+            self.assertEqual(nodes(name, ast.Global, ast.Nonlocal, ast.GeneratorExp, ast.NamedExpr), [], name)
             for node in nodes(name, ast.AugAssign):
                 self.assertIsInstance(node.value, ast.Constant, name)
 

@@ -1,4 +1,4 @@
-"""The sessions of the document, as far as the program goes by now."""
+"""The sessions of the document."""
 
 import doctest
 import unittest
