@@ -1,8 +1,8 @@
 """Whether, at which sizes and where two programs do the same."""
 
 from allwordlengths.checks import check_size
-from allwordlengths.digitrows import IN_FIRST, joined_rows
-from allwordlengths.sizes import ALL_ROWS, sizes_told
+from allwordlengths.digitrows import ALL_ROWS, IN_FIRST, joined_rows
+from allwordlengths.sizes import sizes_told
 from allwordlengths.tables import Table, machines_told
 from allwordlengths.unlike import alike_rows, are_alike_at, first_difference
 

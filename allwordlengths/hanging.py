@@ -2,12 +2,12 @@
 
 from allwordlengths.chains import FLIP_LETTERS, chained
 from allwordlengths.checks import is_number
-from allwordlengths.digitrows import IN_BOTH, IN_FIRST, joined_rows
+from allwordlengths.digitrows import ALL_ROWS, IN_BOTH, IN_FIRST, joined_rows
 from allwordlengths.errors import BadPlace
 from allwordlengths.machines import machine_of_sum
 from allwordlengths.rules import is_zero
 from allwordlengths.silent import silent_rows
-from allwordlengths.sizes import ALL_ROWS, rows_from, sizes_told
+from allwordlengths.sizes import rows_from, sizes_told
 from allwordlengths.tables import Table
 
 MOST_PLACE = 99

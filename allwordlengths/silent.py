@@ -5,7 +5,7 @@ whatever the digits of the places are. So no size is tried.
 """
 
 from allwordlengths.bits import full
-from allwordlengths.digitrows import least_rows, rows_of_keys, settled_rows
+from allwordlengths.digitrows import least_rows, positive_rows, rows_of_keys
 from allwordlengths.machines import ends_mask, start_mask
 from allwordlengths.vectors import parity, spanned, summed
 
@@ -48,7 +48,7 @@ def ways_by(machine, digit):
 def silent_rows(machine):
     """The rows (digitrows.py) of the sizes at which a machine tells 0 for all places."""
     silence = Silence(machine)
-    return least_rows(settled_rows(rows_of_keys(silence.start, silence.behind, silence.holds, None), 0), None)
+    return least_rows(positive_rows(rows_of_keys(silence.start, silence.behind, silence.holds, None), 0), None)
 
 
 def is_silent(machine, k):

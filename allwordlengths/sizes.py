@@ -2,19 +2,17 @@
 
 from allwordlengths.checks import MOST_SIZE, check_number, check_size, is_number
 from allwordlengths.digitrows import (
-    IN_BOTH, IN_EITHER, IN_FIRST, IN_ONE, joined_rows, least_rows, rows_of_keys, settled_rows,
+    ALL_ROWS, IN_BOTH, IN_EITHER, IN_FIRST, IN_ONE, NO_ROWS, joined_rows, least_rows, positive_rows, row_behind,
+    rows_of_keys, rows_of_shift, settled_rows,
 )
 from allwordlengths.errors import BadNumber, BadSize, TooMany
-from allwordlengths.ranges import greatest_of, has_no_end, least_from, many_upto, nearest, numbers_between
+from allwordlengths.ranges import greatest_of, has_no_end, last_upto, least_from, many_upto, numbers_between
 
 MOST_CLASSES = 400
 MOST_TOLD = 64
 MOST_DIVISOR = 60
 MOST_SHIFT = 30
 MOST_RANGE = 1000
-
-NO_ROWS = ((0, 0, 0),)
-ALL_ROWS = ((0, 1, 0), (1, 1, 1))
 
 
 class Sizes:
@@ -48,7 +46,7 @@ class Sizes:
 
     def least(self):
         """The least size, or None."""
-        return least_from(self.digit_rows, 1, 1)
+        return least_from(self.digit_rows, 1)
 
     def greatest(self):
         """The greatest size, or None if there is none or if there are endlessly many sizes."""
@@ -57,12 +55,12 @@ class Sizes:
     def next_from(self, k):
         """The least size that is not below k, or None."""
         check_size(k)
-        return least_from(self.digit_rows, 1, k)
+        return least_from(self.digit_rows, k)
 
     def last_upto(self, k):
         """The greatest size that is not above k, or None."""
         check_size(k)
-        return nearest(self.digit_rows, 1, k, k.bit_length(), 1)
+        return last_upto(self.digit_rows, k)
 
     def from_on(self):
         """The least size such that it and all greater ones are in the set, or None."""
@@ -104,39 +102,21 @@ class Sizes:
     def halves(self, digit):
         """The sizes k with 2 * k + digit in the set."""
         check_number(digit, 0, 1)
-        return sizes_told(settled_rows(self.digit_rows, self.digit_rows[0][digit]))
+        return sizes_told(positive_rows(self.digit_rows, self.digit_rows[0][digit]))
 
     def twice(self, digit):
         """The sizes 2 * k + digit for the sizes k of the set."""
         check_number(digit, 0, 1)
-        first = (2, 1, 0) if digit == 0 else (1, 2, 0)
-        moved = [(zero + 2, one + 2, inside) for zero, one, inside in self.digit_rows]
-        return sizes_told([first, (1, 1, 0), *moved])
+        moved = [(zero + 1, one + 1, inside) for zero, one, inside in self.digit_rows]
+        # Behind the other digit there are no numbers.
+        none = len(moved) + 1
+        first = (1, none, 0) if digit == 0 else (none, 1, 0)
+        return sizes_told([first, *moved, (none, none, 0)])
 
     def shifted(self, many):
         """The sizes k + many, as far as they are sizes, for the sizes k of the set."""
         check_number(many, -MOST_SHIFT, MOST_SHIFT)
-        rows = self.digit_rows
-
-        # A key is the row that is reached by the digits of k, and what of -many has still to be added for k.
-        def step(key, digit):
-            at, carry = key
-            return rows[at][(digit + carry) % 2], (digit + carry) // 2
-
-        def inside(key):
-            at, carry = key
-            return carry >= 0 and rows[row_behind(rows, at, carry)][2] == 1
-
-        return sizes_of_keys((0, -many), step, inside, None)
-
-
-def row_behind(rows, start, number):
-    """The index of the row that is reached from one by the digits of a number."""
-    at = start
-    text = f"{number:b}"
-    for sign in text[::-1]:
-        at = rows[at][int(sign)]
-    return at
+        return sizes_told(positive_rows(rows_of_shift(self.digit_rows, many), 0))
 
 
 def sizes_told(rows):
@@ -144,29 +124,31 @@ def sizes_told(rows):
     return Sizes(least_rows(rows, MOST_CLASSES))
 
 
-def sizes_of_keys(start, step, inside, most):
-    """The set that is told by keys, of which there may be at most most, or any number if most is None."""
-    return sizes_told(settled_rows(rows_of_keys(start, step, inside, most), 0))
+def sizes_of_least(rows):
+    """The set that is told by such rows that are those of its classes, in the order in which they are reached."""
+    if len(rows) > MOST_CLASSES:
+        raise TooMany(MOST_CLASSES)
+    return Sizes(tuple(rows))
 
 
 def no_sizes():
     """The empty set."""
-    return sizes_told(NO_ROWS)
+    return sizes_of_least(NO_ROWS)
 
 
 def all_sizes():
     """The set of all sizes."""
-    return sizes_told(ALL_ROWS)
+    return sizes_of_least(ALL_ROWS)
 
 
 def sizes_from(k):
     """The set of all sizes from k on."""
     check_size(k)
-    return sizes_told(rows_from(k))
+    return sizes_of_least(rows_from(k))
 
 
 def rows_from(k):
-    """The rows of all sizes from k on."""
+    """The rows of the classes of all sizes from k on."""
     # A key is what the number of the digits that follow has to reach.
     def step(key, digit):
         return (key - digit + 1) // 2
@@ -174,21 +156,26 @@ def rows_from(k):
     def inside(key):
         return key == 0
 
-    return settled_rows(rows_of_keys(k, step, inside, None), 0)
+    return rows_of_keys(k, step, inside, None)
 
 
 def sizes_upto(k):
     """The set of all sizes up to k."""
     check_size(k)
 
-    # A key is the greatest number that the digits that follow may tell; if it is below 0, there is none.
+    # A key is the greatest number that the digits that follow may tell, or -1 if there is none. Behind noughts alone,
+    # which the number 0 has, too, it is -2 less that number, which has to be at least 1.
     def step(key, digit):
-        return (key - digit) // 2
+        if key >= -1:
+            return (key - digit) // 2
+        if digit == 1:
+            return (-3 - key) // 2
+        return -2 - (-2 - key) // 2 if key < -3 else -1
 
     def inside(key):
         return key >= 0
 
-    return sizes_of_keys(k, step, inside, None)
+    return sizes_of_least(rows_of_keys(-2 - k, step, inside, None))
 
 
 def only_sizes(members):
@@ -199,14 +186,14 @@ def only_sizes(members):
         if not is_number(member, 1, MOST_SIZE):
             raise BadSize(member)
 
-    # A key is the tuple of the numbers that the digits that follow may tell.
+    # A key is the tuple of the numbers that the digits that follow may tell; so unlike keys are of unlike classes.
     def step(key, digit):
         return tuple([number // 2 for number in key if number % 2 == digit])
 
     def inside(key):
         return 0 in key
 
-    return sizes_of_keys(tuple(sorted(set(members))), step, inside, None)
+    return sizes_of_least(rows_of_keys(tuple(sorted(set(members))), step, inside, MOST_CLASSES))
 
 
 def sizes_rest(r, m):
@@ -225,7 +212,7 @@ def sizes_rest(r, m):
     def inside(key):
         return key[0] == 0
 
-    return sizes_of_keys((r, m), step, inside, None)
+    return sizes_told(positive_rows(rows_of_keys((r, m), step, inside, None), 0))
 
 
 def sizes_of_rows(rows):
@@ -237,12 +224,12 @@ def sizes_of_rows(rows):
     for index, row in enumerate(rows):
         if not is_row(row, len(rows)):
             raise BadNumber(index)
-    return sizes_told(settled_rows(rows, 0))
+    return sizes_told(settled_rows(rows))
 
 
 def sizes_by(start, step, inside):
     """The set that is told by a first key and functions, for the key behind a digit and for what is inside."""
-    return sizes_of_keys(start, step, inside, MOST_CLASSES)
+    return sizes_told(settled_rows(rows_of_keys(start, step, inside, MOST_CLASSES)))
 
 
 def is_row(row, many):

@@ -1,9 +1,9 @@
 """Programs that are told by what they make of words: which can still be, what to ask next, and asking."""
 
 from allwordlengths.checks import check_number, is_word
-from allwordlengths.digitrows import IN_BOTH, joined_rows, least_rows
+from allwordlengths.digitrows import ALL_ROWS, IN_BOTH, joined_rows, least_rows
 from allwordlengths.errors import BadLook, BadStep, TooMany
-from allwordlengths.sizes import ALL_ROWS, all_sizes, sizes_told
+from allwordlengths.sizes import all_sizes, sizes_told
 from allwordlengths.steps import step_parts
 from allwordlengths.tables import machines_told
 from allwordlengths.trying import does_all, machines_if_told, programs_of

@@ -1,11 +1,10 @@
 """What is unlike between programs, each told by the pair of its machines of T and of F."""
 
-from allwordlengths.digitrows import IN_BOTH, IN_FIRST, joined_rows
+from allwordlengths.digitrows import ALL_ROWS, IN_BOTH, IN_FIRST, joined_rows
 from allwordlengths.machines import machine_of_sum
 from allwordlengths.ranges import least_from
 from allwordlengths.seeking import least_first_place
 from allwordlengths.silent import is_silent, silent_rows
-from allwordlengths.sizes import ALL_ROWS
 from allwordlengths.tables import row_search
 
 
@@ -35,7 +34,7 @@ def first_difference(one, other):
     It is a tuple (k, i, j); j is None if the flips of bit i are unlike.
     """
     places, flips = differences(one, other)
-    k = least_from(joined_rows(ALL_ROWS, silent_for_both((places, flips)), IN_FIRST), 1, 1)
+    k = least_from(joined_rows(ALL_ROWS, silent_for_both((places, flips)), IN_FIRST), 1)
     if k is None:
         return None
     flipped = least_first_place(flips, k)

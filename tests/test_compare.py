@@ -81,7 +81,7 @@ class SmallTest(Case):
             self.assertTrue(is_refused(one) or is_refused(other), (one, other))
 
     def test_programs(self):
-        for one, other in zip(program_texts(101, 70, 5), program_texts(102, 70, 5)):
+        for one, other in zip(program_texts(101, 50, 5), program_texts(102, 50, 5)):
             self.check_if_told(one, other)
 
     def test_steps(self):
