@@ -6,7 +6,7 @@ from allwordlengths.steps import RESTS
 # The tests about i, j and k in this order whether i is a place and whether j is i, and the rule of a bit that stays.
 PLACE = (("below", (1, 0, -1)), 0)
 SAME = (("zero", (1, -1, 0)), 0)
-STAYS = (SAME, PLACE)
+STAYS = ((("zero", (1, -1, 0)), 0), (("below", (1, 0, -1)), 0))
 
 
 def table_rules(step):

@@ -3,9 +3,10 @@
 import re
 import unittest
 from random import Random
+from unittest.mock import patch
 
 from allwordlengths.compare import alike, alike_at, apart_sizes, first_apart
-from allwordlengths.errors import BadSize, TooLarge
+from allwordlengths.errors import BadSize, TooLarge, TooMany
 from allwordlengths.marks import Marks
 from allwordlengths.programs import Program
 from allwordlengths.sizes import (
@@ -34,6 +35,7 @@ KNOWN = (
     ("near 2 at 0 of 2 then roll 2", "roll 2 then near 2 at 0 of 2", only_sizes((1, 2))),
     ("sum 1", "near 1 then near 2", sizes_upto(4)), ("turn then near 1", "near -1 then turn", all_sizes()),
 )
+KNOWN_PAIRS = [(one, other) for one, other, _ in KNOWN]
 
 
 def sizes_alike(one, other):
@@ -106,6 +108,18 @@ class SmallTest(Case):
             longer = text + " then " + random.choice(STEPS[1:])
             if len(re.findall("deal", longer)) <= 2:
                 self.check_if_told(text, longer)
+
+    def test_words(self):
+        """By doing the word of noughts and all words with a single 1."""
+        for one, other in [*zip(program_texts(112, 25, 4), program_texts(113, 25, 4)), *REWRITTEN[::4], *KNOWN_PAIRS[::4]]:
+            first, second = Program(one), Program(other)
+            for k in range(1, 10):
+                words = [(0,) * k, *[tuple(int(place == j) for place in range(k)) for j in range(k)]]
+                same = all(first.done(word) == second.done(word) for word in words)
+                try:
+                    self.assertIs(alike_at(first, second, k), same, (one, other, k))
+                except TooLarge:
+                    self.assertTrue(is_refused(one) or is_refused(other))
 
     def test_rewritten(self):
         for one, other in REWRITTEN:
@@ -231,6 +245,19 @@ class RefusedTest(Case):
                     self.refused(TooLarge, "most", 60, call, *pair)
                 for k in (1, 7, K):
                     self.refused(TooLarge, "most", 60, alike_at, *pair, k)
+
+    def test_too_many_classes(self):
+        """No two programs are known whose set has more than 400 classes, so fewer are allowed here."""
+        one, other = Program("roll 3"), Program("roll -3")
+        most = len(apart_sizes(one, other).digit_rows)
+        with patch("allwordlengths.sizes.MOST_CLASSES", most - 1):
+            self.refused(TooMany, "most", most - 1, apart_sizes, one, other)
+            self.refused(TooLarge, "most", 60, apart_sizes, one, Program(LARGE[0]))
+            # What tells no set is not refused.
+            self.assertEqual(first_apart(one, other), (4, 0, 1))
+            self.assertIs(alike_at(one, other, 6), True)
+        with patch("allwordlengths.sizes.MOST_CLASSES", most):
+            self.assertEqual(apart_sizes(one, other), ~only_sizes((1, 2, 3, 6)))
 
     def test_names_of_arguments(self):
         one, other = Program("turn"), Program("swap")

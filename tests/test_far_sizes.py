@@ -8,9 +8,9 @@ from allwordlengths.sizes import sizes_from, sizes_rest, sizes_upto
 from cases import K
 from far_calls import ANSWERS, CALLS, answer_of, counter
 
-# A call takes about a millisecond or less, all of them together about 15.
-SECONDS_FOR_ONE = 0.008
-SECONDS_FOR_ALL = 0.1
+# A call takes about a millisecond or less, all of them together take about 20.
+SECONDS_FOR_ONE = 0.01
+SECONDS_FOR_ALL = 0.12
 
 
 def seconds(call):

@@ -2,8 +2,9 @@
 
 import unittest
 from random import Random
+from unittest.mock import patch
 
-from allwordlengths.errors import BadChoice, TooLarge
+from allwordlengths.errors import BadChoice, TooLarge, TooMany
 from allwordlengths.kept import kept_sizes, turned_sizes
 from allwordlengths.marks import Marks
 from allwordlengths.programs import Program
@@ -181,6 +182,18 @@ class RefusedTest(Case):
             for choice in CHOICES:
                 for call in (kept_sizes, turned_sizes):
                     self.refused(TooLarge, "most", 60, call, Program(text), choice)
+
+    def test_too_many_classes(self):
+        """No set of these functions is known that has more than 400 classes, so fewer are allowed here."""
+        program = Program("flip 1 of 3 then turn")
+        for call, choice in ((kept_sizes, "0 of 3"), (turned_sizes, "first")):
+            most = len(call(program, choice).digit_rows)
+            with patch("allwordlengths.sizes.MOST_CLASSES", most - 1):
+                self.refused(TooMany, "most", most - 1, call, program, choice)
+                self.refused(TooLarge, "most", 60, call, Program(LARGE[0]), choice)
+                self.refused(BadChoice, "choice", "none", call, Program(LARGE[0]), "none")
+            with patch("allwordlengths.sizes.MOST_CLASSES", most):
+                self.assertIs(type(call(program, choice)), Sizes)
 
     def test_names_of_arguments(self):
         self.assertEqual(kept_sizes(program=Program("turn"), choice="0 of 2"), sizes_rest(1, 2))

@@ -2,8 +2,9 @@
 
 import unittest
 from random import Random
+from unittest.mock import patch
 
-from allwordlengths.errors import BadNumber, TooLarge
+from allwordlengths.errors import BadNumber, TooLarge, TooMany
 from allwordlengths.marks import Marks
 from allwordlengths.places import times_home
 from allwordlengths.powers import back_sizes, commute_sizes, takes_back_sizes
@@ -78,6 +79,20 @@ class BackTest(PowersCase):
         for at, text in enumerate(STEPS):
             for times in range(1 + at % 3, 9, 3):
                 self.check_if_told(text, times)
+
+    def test_words(self):
+        """By doing the word of noughts and all words with a single 1 as often."""
+        random = Random(126)
+        for text in program_texts(127, 30, 4):
+            program, times = Program(text), random.randint(1, 8)
+            found = self.check_if_told(text, times)
+            for k in range(1, 10):
+                words = [(0,) * k, *[tuple(int(place == j) for place in range(k)) for j in range(k)]]
+                results = words
+                for _ in range(times):
+                    results = [program.done(word) for word in results]
+                if found is not None:
+                    self.assertIs(k in found, results == words, (text, times, k))
 
     def test_times_home(self):
         told = 0
@@ -165,6 +180,19 @@ class BackTest(PowersCase):
         back_sizes(Program("near 3 at 0 of 3 then spread"), 3)
         self.assertGreater(plain_states(put(*["near 3 at 0 of 3 then spread"] * 3, "near 3 at 0 of 3"), 3), 60)
         self.refused(TooLarge, "most", 60, back_sizes, Program("near 3 at 0 of 3 then spread"), 4)
+
+    def test_too_many_classes(self):
+        """No set of these functions is known that has more than 400 classes, so fewer are allowed here."""
+        roll, large = Program("roll 3"), Program("deal")
+        calls = ((lambda program: back_sizes(program, 3)), (lambda program: takes_back_sizes(program * 2, program)),
+                 lambda program: commute_sizes(program * 2, program if program == large else Program("turn")))
+        for call in calls:
+            most = len(call(roll).digit_rows)
+            with patch("allwordlengths.sizes.MOST_CLASSES", most - 1):
+                self.refused(TooMany, "most", most - 1, call, roll)
+                self.refused(TooLarge, "most", 60, call, large)
+            with patch("allwordlengths.sizes.MOST_CLASSES", most):
+                self.assertIs(type(call(roll)), Sizes)
 
     def test_bad_times(self):
         for text in ("", "turn", *LARGE):
