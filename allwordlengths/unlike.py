@@ -13,19 +13,21 @@ def differences(one, other):
     return machine_of_sum(one[0], other[0]), machine_of_sum(one[1], other[1])
 
 
-def silent_for_both(machines):
+def silent_for_both(places, flips):
     """The rows (digitrows.py) of the sizes at which two machines tell 0 for all places."""
-    return joined_rows(silent_rows(machines[0]), silent_rows(machines[1]), IN_BOTH)
+    return joined_rows(silent_rows(places), silent_rows(flips), IN_BOTH)
 
 
 def alike_rows(one, other):
     """The rows of the sizes at which two programs are alike."""
-    return silent_for_both(differences(one, other))
+    places, flips = differences(one, other)
+    return silent_for_both(places, flips)
 
 
 def are_alike_at(one, other, k):
     """Whether two programs are alike at a size."""
-    return all([is_silent(machine, k) for machine in differences(one, other)])
+    # The machines of F are small, so they are asked first.
+    return is_silent(machine_of_sum(one[1], other[1]), k) and is_silent(machine_of_sum(one[0], other[0]), k)
 
 
 def first_difference(one, other):
@@ -34,7 +36,7 @@ def first_difference(one, other):
     It is a tuple (k, i, j); j is None if the flips of bit i are unlike.
     """
     places, flips = differences(one, other)
-    k = least_from(joined_rows(ALL_ROWS, silent_for_both((places, flips)), IN_FIRST), 1)
+    k = least_from(joined_rows(ALL_ROWS, silent_for_both(places, flips), IN_FIRST), 1)
     if k is None:
         return None
     flipped = least_first_place(flips, k)
