@@ -203,4 +203,4 @@ def grouped(bench, same):
             found[0].append((name, machines))
         else:
             groups.append([(name, machines)])
-    return tuple([tuple([name for name, _ in group]) for group in groups])
+    return tuple([tuple([own for own, _ in group]) for group in groups])
