@@ -83,7 +83,7 @@ class SmallTest(Case):
             self.assertTrue(is_refused(one) or is_refused(other), (one, other))
 
     def test_programs(self):
-        for one, other in zip(program_texts(101, 50, 5), program_texts(102, 50, 5)):
+        for one, other in zip(program_texts(101, 40, 5), program_texts(102, 40, 5)):
             self.check_if_told(one, other)
 
     def test_steps(self):
@@ -104,7 +104,7 @@ class SmallTest(Case):
 
     def test_a_step_more(self):
         random = Random(106)
-        for text in program_texts(107, 40, 4):
+        for text in program_texts(107, 25, 4):
             longer = text + " then " + random.choice(STEPS[1:])
             if len(re.findall("deal", longer)) <= 2:
                 self.check_if_told(text, longer)

@@ -67,7 +67,7 @@ class SmallTest(Case):
                 self.check(text, choice)
 
     def test_programs(self):
-        for text in program_texts(141, 70, 5):
+        for text in program_texts(141, 45, 5):
             for choice in CHOICES:
                 try:
                     self.check(text, choice)

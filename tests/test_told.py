@@ -326,8 +326,8 @@ class LearnedTest(Case):
         makers = [lambda word, value=value: value for value in [*values, 0, "", "10", ()]]
         makers += [lambda word: word[1:], lambda word: word + (0,), lambda word: (2,) + word[1:], lambda word: None,
                    lambda word: (True,) + word[1:], lambda word: "1" * len(word), lambda word: (0,) * 1001]
-        for made in makers:
-            for turn in range(many):
+        for number, made in enumerate(makers):
+            for turn in range(many) if number >= len(makers) - 7 else [number % many]:
                 asked = []
 
                 def box(word):

@@ -119,7 +119,7 @@ class SizesTest(Case):
     """Compare, powers, kept, hanging, told and bench tell the same sets of sizes."""
 
     def test_compare_and_powers(self):
-        found = programs(211, 90, 3)
+        found = programs(211, 60, 3)
         for one, other in zip(found, found[1:]):
             apart = apart_sizes(one, other)
             self.assertEqual(agreed_sizes([one, other]), ~apart)
@@ -170,7 +170,7 @@ class SizesTest(Case):
 
     def test_compare_and_bits(self):
         random = Random(216)
-        found = programs(217, 80, 4)
+        found = programs(217, 50, 4)
         pairs = [*zip(found, found[1:]), *[(Program(one), Program(other)) for one, other in REWRITTEN]]
         for one, other in pairs:
             first = first_apart(one, other)
@@ -199,8 +199,8 @@ class SizesTest(Case):
     def test_bench_and_the_others(self):
         random = Random(218)
         told = programs(219, 60, 2)
-        for _ in range(8):
-            found = random.sample(told, 6)
+        for _ in range(5):
+            found = random.sample(told, 5)
             bench = Bench()
             for number, program in enumerate(found + found[:2]):
                 bench["abcdefgh"[number]] = program
